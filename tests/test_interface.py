@@ -1,0 +1,106 @@
+"""The names, the arguments and the kinds of what the interface lists, module by module."""
+
+import importlib
+import inspect
+import unittest
+
+FUNCTIONS = {
+    "cycles": [
+        "place_on(cycle, day)", "days_at(cycle, place)", "all_cycles(least, most)", "moved(cycle, days)",
+        "turns(cycle, first, last)", "is_whole(inner, outer)", "whole_outers(inner, least, most)",
+        "next_day(cycles, places, start)",
+    ],
+    "remainders": [
+        "remainder_row(sightings, length)", "fitting_cycles(sightings, least, most)", "common_divisor(sightings)",
+        "shut_lengths(sightings, least, most)", "judge_table(sightings, least, most, table)",
+        "gap_places(place, gap, least, most)", "possible_gaps(place, other, least, most, span)",
+    ],
+    "spans": ["path_sum(network, path)", "judge_ring(network, ring)"],
+    "stacks": [
+        "play(moves)", "rests(moves)", "stack_moves(put, taken)", "judge_no_moves(put, taken, triple)",
+        "taken_lines(put)", "count_taken(many)", "first_taken(put, order)",
+    ],
+    "sightings": [
+        "fitting_stays(notes, last)", "least_stays(notes, last)", "greatest_stays(notes, last)",
+        "stay_bounds(notes, last)", "stay_bar(notes, last)", "judge_bar(notes, last, bar)",
+        "surely_on(notes, last, day)", "meeting_pairs(notes, other, last)",
+    ],
+    "nesting": ["nest(stays)", "stretches_of(moves)"],
+    "timetables": ["arrivals(timetable, begin, *, silent=())"],
+}
+CLASSES = {
+    "residues.Residue": [
+        "(place, length)", "first_from(day)", "last_until(day)", "count_in(first, last)", "members(first, last)",
+        "part_of(other)", "scaled(factor)", "static every()", "static meet(*residues)",
+        "__contains__", "__add__", "__sub__", "__neg__", "__and__", "__eq__", "__str__",
+    ],
+    "remainders.RemainderTable": ["(rows)"],
+    "calendars.Calendar": [
+        "(cycles)", "date_of(day)", "place_of(name, day)", "next_with(start, **places)", "property period",
+        "class read(text)", "__eq__", "__getitem__", "__add__", "__str__",
+    ],
+    "spans.Network": [
+        "(points, spans=(), *, first=0, last=30)", "is_possible()", "least_days()", "greatest_days()", "slack()",
+        "between(before, after)", "lead(before, after)", "closest(before, after)", "tied()",
+        "__add__", "__contains__", "__eq__",
+    ],
+    "orders.Order": [
+        "(names, pairs)", "ahead(first, second)", "pairs()", "reduced()", "open_pairs()", "part_of(other)",
+        "least_line()", "greatest_line()", "place_bounds(name)", "count_lines()", "lines()", "line_at(number)",
+        "number_of(line)", "__contains__", "__or__", "__and__", "__eq__",
+    ],
+    "stays.Stay": [
+        "(come, go)", "property width", "meets(other)", "within(other)", "crosses(other)", "parts_without(other)",
+        "static around(days)", "__contains__", "__add__", "__sub__", "__and__", "__or__", "__eq__", "__str__",
+    ],
+    "sightings.StayBar": ["(kind, indexes)"],
+    "staytree.StayTree": [
+        "(last)", "property size", "keep(person, stay)", "leave(person)", "nodes_of(person)", "path(day)",
+        "who_on(day)", "throughout(stay)", "shape()", "crowd()", "twin()", "__getitem__", "__setitem__", "__contains__",
+    ],
+    "timetables.Timetable": ["(people, meetings)", "__eq__"],
+}
+YIELDING = {"members", "lines", "taken_lines", "fitting_stays", "arrivals"}
+
+
+def written(function, without_first):
+    """The name and the arguments of a function as the interface writes them."""
+    rows = list(inspect.signature(function).parameters.values())[1 if without_first else 0:]
+    return function.__name__.replace("__init__", "") + str(inspect.Signature(rows))
+
+
+class InterfaceTest(unittest.TestCase):
+    def test_functions(self):
+        for module, rows in FUNCTIONS.items():
+            for row in rows:
+                function = getattr(importlib.import_module(f"fittingpasts.{module}"), row.partition("(")[0])
+                self.assertEqual(written(function, False), row)
+                self.assertEqual(function.__module__, f"fittingpasts.{module}")
+                self.assertEqual(inspect.isgeneratorfunction(function), function.__name__ in YIELDING, row)
+
+    def test_classes_and_their_own_methods(self):
+        for path, rows in CLASSES.items():
+            module, _, name = path.partition(".")
+            kind = getattr(importlib.import_module(f"fittingpasts.{module}"), name)
+            self.assertEqual(kind.__module__, f"fittingpasts.{module}")
+            for row in rows:
+                self.check_method(kind, row)
+
+    def check_method(self, kind, row):
+        first, _, rest = row.partition(" ")
+        if first in ("static", "class", "property"):
+            held = vars(kind)[rest.partition("(")[0]]
+            kinds = {"static": staticmethod, "class": classmethod, "property": property}
+            self.assertIsInstance(held, kinds[first], row)
+            if first != "property":
+                self.assertEqual(written(held.__func__, first == "class"), rest)
+        elif row.startswith("__"):
+            self.assertIn(row, vars(kind))
+        else:
+            function = vars(kind)[row.partition("(")[0] or "__init__"]
+            self.assertEqual(written(function, True), row)
+            self.assertEqual(inspect.isgeneratorfunction(function), function.__name__ in YIELDING, row)
+
+
+if __name__ == "__main__":
+    unittest.main()
