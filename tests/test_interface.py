@@ -27,6 +27,20 @@ FUNCTIONS = {
     ],
     "nesting": ["nest(stays)", "stretches_of(moves)"],
     "timetables": ["arrivals(timetable, begin, *, silent=())"],
+    "ways": ["earliest_way(timetable, begin, person)", "judge_way(timetable, begin, person, way)"],
+    "borders": [
+        "border(timetable, begin, person, *, by=None, silent=())",
+        "judge_border(timetable, begin, person, table, *, by=None, silent=())",
+        "gatekeepers(timetable, begin, person, *, by=None)",
+    ],
+    "deadlines": ["deadlines(timetable, person, by)", "carriers(timetable, begin, person, by)"],
+    "sources": ["heard_days(timetable, sources)", "trace(timetable, sources, person)", "beginners(sources)"],
+    "rules": ["all_rules(count)"],
+    "shelving": [
+        "wrong_pairs(rule, shelf)", "strays(rule, shelf)", "slots(rule, shelf, roll)", "fitting_rules(shelf, count)",
+        "word_over(rules, roll, other)", "shelf_cut(shelf, count)", "judge_cut(shelf, count, cut)",
+    ],
+    "demands": ["demand(rule, first, second)", "shelf_demands(rule, shelf)"],
 }
 CLASSES = {
     "residues.Residue": [
@@ -59,6 +73,11 @@ CLASSES = {
         "who_on(day)", "throughout(stay)", "shape()", "crowd()", "twin()", "__getitem__", "__setitem__", "__contains__",
     ],
     "timetables.Timetable": ["(people, meetings)", "__eq__"],
+    "rules.Rule": [
+        "(terms)", "compare(first, second)", "direction_of(mark)", "mark_order()", "static plain(*marks)",
+        "class read(text)", "__call__", "__neg__", "__add__", "__eq__", "__str__",
+    ],
+    "shelving.ShelfCut": ["(rows)"],
 }
 YIELDING = {"members", "lines", "taken_lines", "fitting_stays", "arrivals"}
 

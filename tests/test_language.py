@@ -294,7 +294,8 @@ class LanguageTest(unittest.TestCase):
             passed = isinstance(over, ast.Call) and called(over) in ITERATING
             if called(node) in OPEN_CALLS | {"items", "keys", "values"}:
                 kept = isinstance(over, ast.Assign) and called(node) == "range"
-                self.refuse("L23", name, node, not (looped or passed or kept))
+                tested = isinstance(over, ast.Compare) and isinstance(over.ops[-1], ast.In) and called(node) == "range"
+                self.refuse("L23", name, node, not (looped or passed or kept or tested))
             if called(node) in GENERATORS:
                 plain = (ast.Name, ast.Attribute, ast.Constant, ast.Tuple)
                 self.refuse("L23", name, node, not (looped or passed or isinstance(over, ast.YieldFrom)))
@@ -342,7 +343,8 @@ class LanguageTest(unittest.TestCase):
             if isinstance(node, ast.Attribute) and isinstance(node.ctx, ast.Store):
                 self.refuse("L5", function.name, node, function.name != "__init__")
             if isinstance(node, ast.Subscript) and not isinstance(node.ctx, ast.Load):
-                self.refuse("L5", function.name, node, not isinstance(node.value, ast.Name) or node.value.id not in made)
+                mine = isinstance(node.value, ast.Name) and node.value.id in made
+                self.refuse("L5", function.name, node, not mine)
             if isinstance(node, ast.AugAssign):
                 self.refuse("L5", function.name, node, not isinstance(node.value, ast.Constant))
             if isinstance(node, ast.Call) and isinstance(node.func, ast.Attribute) and node.func.attr in CHANGING:
