@@ -3,6 +3,7 @@
 from math import gcd
 
 from fittingpasts.cycles import all_cycles, place_on
+from fittingpasts.words import as_tuples
 
 
 def _demand(sighting, length):
@@ -42,7 +43,7 @@ class RemainderTable:
     """The certificate of shut lengths: triples of a length and two indexes of sightings."""
 
     def __init__(self, rows):
-        self.rows = tuple([tuple(row) for row in rows])
+        self.rows = as_tuples(rows)
 
 
 def _shut_by(row):

@@ -2,6 +2,7 @@
 
 from fittingpasts.errors import NotSorted
 from fittingpasts.rules import Rule, all_rules, all_terms, is_term
+from fittingpasts.words import as_tuples
 
 
 def _pairs(shelf):
@@ -55,7 +56,7 @@ class ShelfCut:
     """The certificate that rules do not sort a shelf: triples of a beginning of rules and two indexes."""
 
     def __init__(self, rows):
-        self.rows = tuple([(tuple([tuple(term) for term in prefix]), first, second) for prefix, first, second in rows])
+        self.rows = as_tuples(rows)
 
 
 def _is_shut(shelf, prefix, first, second):

@@ -51,7 +51,7 @@ def _walked_back(raised_by, begin, point):
     return tuple(path[::-1])
 
 
-def _positive_ring(network):
+def positive_ring(network):
     """Return a ring with a positive sum, or None if there is a completion."""
     start = {point: 0 for point in network.points}
     _, raised_by, point = _raised(network.points, _best_steps(network), start)
@@ -96,7 +96,7 @@ class Network:
 
     def _completed_steps(self):
         """Return the best steps; raise NoCompletion if no completion keeps them."""
-        ring = _positive_ring(self)
+        ring = positive_ring(self)
         if ring is not None:
             raise NoCompletion(ring)
         return _best_steps(self)
@@ -108,7 +108,7 @@ class Network:
 
     def is_possible(self):
         """Return True if there is a completion."""
-        return _positive_ring(self) is None
+        return positive_ring(self) is None
 
     def least_days(self):
         """Return the completion in which each point has its least day."""

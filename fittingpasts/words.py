@@ -1,4 +1,4 @@
-"""What several modules ask of names, numbers in texts, and lists of names."""
+"""What several modules ask of names, numbers in texts, lists of names, and what they are given."""
 
 from fittingpasts.errors import Duplicate, TooMany, UnknownName
 
@@ -32,3 +32,10 @@ def check_known(names, known):
     for name in names:
         if name not in known:
             raise UnknownName(name)
+
+
+def as_tuples(value):
+    """Return the value with tuples in the place of sequences, also of those inside of sequences."""
+    if isinstance(value, (list, tuple)):
+        return tuple([as_tuples(part) for part in value])
+    return value

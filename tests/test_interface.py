@@ -41,6 +41,18 @@ FUNCTIONS = {
         "word_over(rules, roll, other)", "shelf_cut(shelf, count)", "judge_cut(shelf, count, cut)",
     ],
     "demands": ["demand(rule, first, second)", "shelf_demands(rule, shelf)"],
+    "aging": [
+        "demand_spans(rule, shelf, events)", "possible_rules(network, shelf, events, known)",
+        "rule_table(network, shelf, events, known)", "judge_rules(network, shelf, events, known, table)",
+        "shelf_between(network, shelf, events, known, before, after)",
+    ],
+    "variables": [
+        "variables(frame)", "values_of(frame, variable)", "part_name(variable)", "point_variable(frame, point)",
+    ],
+    "house": [
+        "house_ties(frame)", "tie_scope(frame, label)", "tie_holds(frame, label, values)", "frame_network(frame)",
+    ],
+    "past": ["parted(past, other)"],
 }
 CLASSES = {
     "residues.Residue": [
@@ -78,6 +90,40 @@ CLASSES = {
         "class read(text)", "__call__", "__neg__", "__add__", "__eq__", "__str__",
     ],
     "shelving.ShelfCut": ["(rows)"],
+    "aging.RuleTable": ["(rows)"],
+    "frames.Frame": [
+        "(events, people=(), meetings=(), cycles=(), marks=(), rolls=(), shelves=(), *, last=10)", "guests(event)",
+        "event_of(roll)", "values_of_roll(roll)", "rolls_on(shelf)", "shelf_marks(shelf)", "class read(text)",
+        "__eq__", "__str__",
+    ],
+    "past.Past": [
+        "(frame, values)", "faults()", "is_whole()", "day_of(point)", "event_line()", "stay_of(person)", "calendar()",
+        "timetable()", "sources()", "rule_of(shelf)", "full_rolls(shelf)", "stray_of(shelf)", "class read(frame, text)",
+        "__eq__", "__getitem__", "__str__",
+    ],
+    "statements.Statement": [
+        "(words, positive=True)", "scope(frame)", "holds_with(frame, values)", "holds(past)",
+        "__invert__", "__or__", "__eq__", "__str__",
+    ],
+    "statements.Apart": ["(first, second, least=None, most=None)"],
+    "statements.OnDay": ["(point, first, last)"],
+    "statements.Dated": ["(point, cycle, place)"],
+    "statements.Long": ["(cycle, least, most)"],
+    "statements.Whole": ["(inner, outer)"],
+    "statements.Present": ["(person, event)"],
+    "statements.Together": ["(person, other)"],
+    "statements.Heard": ["(person, point)"],
+    "statements.Told": ["(teller, hearer, event=None)"],
+    "statements.Began": ["(person)"],
+    "statements.Rises": ["(shelf, mark)"],
+    "statements.Outranks": ["(shelf, mark, other)"],
+    "statements.SameRule": ["(shelf, other)"],
+    "statements.Astray": ["(shelf, roll=None)"],
+    "statements.Filed": ["(shelf, roll, other)"],
+    "statements.Piled": ["(lower, upper)"],
+    "statements.Clause": [
+        "(*statements)", "statements()", "scope(frame)", "holds(past)", "__or__", "__eq__", "__len__", "__str__",
+    ],
 }
 YIELDING = {"members", "lines", "taken_lines", "fitting_stays", "arrivals"}
 

@@ -161,7 +161,7 @@ class LanguageTest(unittest.TestCase):
                 if isinstance(node, ast.Assign):
                     single = len(node.targets) == 1 and isinstance(node.targets[0], ast.Name)
                     self.refuse("L3", name, node, not single)
-                    ast.literal_eval(node.value)
+                    self.check_plain(node.value, bound)
                     bound.append(node.targets[0].id)
                 elif isinstance(node, (ast.FunctionDef, ast.ClassDef)):
                     bound.append(node.name)
@@ -174,6 +174,18 @@ class LanguageTest(unittest.TestCase):
                     self.refuse("L3", name, node, at > 0 or ast.get_docstring(tree) is None)
             self.assertEqual(len(bound), len(set(bound)), f"L15: {name}")
             self.assertEqual(set(bound) & set(dir(builtins)), set(), f"L15: {name}")
+
+    def check_plain(self, node, bound):
+        """A value at module level is plain; in a dict there may also be functions that are defined above."""
+        if isinstance(node, ast.Dict):
+            for key, value in zip(node.keys, node.values):
+                ast.literal_eval(key)
+                if isinstance(value, ast.Name):
+                    self.assertIn(value.id, bound, "L3")
+                else:
+                    ast.literal_eval(value)
+        else:
+            ast.literal_eval(node)
 
     def test_l4_l5_functions_and_classes(self):
         for name, node, parents in self.each(ast.FunctionDef):
@@ -191,6 +203,13 @@ class LanguageTest(unittest.TestCase):
         for name, node, parents in self.each(ast.ClassDef):
             self.refuse("L15", name, node, not isinstance(parents[node], ast.Module))
             self.refuse("L5", name, node, node.decorator_list or node.keywords)
+            for row in node.body:
+                if isinstance(row, ast.Assign):
+                    self.refuse("L5", name, row, len(row.targets) != 1 or not isinstance(row.targets[0], ast.Name))
+                    ast.literal_eval(row.value)
+                else:
+                    told = isinstance(row, ast.Expr) and isinstance(row.value, ast.Constant)
+                    self.refuse("L5", name, row, not told and not isinstance(row, ast.FunctionDef))
             methods = [row.name for row in node.body if isinstance(row, ast.FunctionDef)]
             self.refuse("L5", name, node, "__getitem__" in methods and "__iter__" not in methods)
             plain = [row for row in node.body if not (isinstance(row, ast.FunctionDef) and row.decorator_list)]
@@ -257,9 +276,12 @@ class LanguageTest(unittest.TestCase):
             every = [function.name for function in ALL_FUNCTIONS if function.name == name]
             self.assertEqual(len(every), 1, f"L23: {name}")
             self.assertNotIn(name, attributes, f"L23: {name}")
-        self.assertEqual(len(methods & set(functions)), 0, "a method and a function have one name")
+        # The interface has this name for a function and for a method.
+        self.assertEqual(methods & set(functions), {"is_whole"}, "a method and a function have one name")
+        kept = {row.targets[0].id for node in ALL_CLASSES for row in node.body if isinstance(row, ast.Assign)}
+        self.assertEqual(kept & (attributes | methods | METHODS), set(), "L5: class values")
         for name, node, _ in self.each(ast.Attribute):
-            right = node.attr in attributes | methods | METHODS
+            right = node.attr in attributes | methods | METHODS | kept
             self.refuse("L18", name, node, not right)
 
     def test_l19_errors(self):
@@ -283,6 +305,8 @@ class LanguageTest(unittest.TestCase):
         for name, node, parents in self.each(ast.Name):
             if node.id in BUILTINS and not node.id[0].isupper() and node.id not in ("property", "staticmethod"):
                 call = parents[node]
+                if isinstance(call, ast.Tuple):
+                    call = parents[call]
                 right = isinstance(call, ast.Call) and (call.func is node or called(call) == "isinstance")
                 right = right or isinstance(call, ast.keyword) and call.arg == "key" or node.id == "classmethod"
                 self.refuse("L22", name, node, not right)
