@@ -1,7 +1,7 @@
 import unittest
 
 from fittingpasts.errors import Duplicate, TooMany, UnknownName
-from fittingpasts.words import check_known, check_names, is_name, is_number
+from fittingpasts.words import as_tuples, check_known, check_names, is_name, is_number
 from tests.helpers import Case
 
 
@@ -26,6 +26,12 @@ class WordsTest(Case):
         self.assert_fails(Duplicate("b"), lambda: check_names(("a", "b", "b", "a"), 4))
         self.assertIsNone(check_known(("b", "a", "a"), ("a", "b")))
         self.assert_fails(UnknownName("x"), lambda: check_known(("a", "x", "y"), ("a", "b")))
+
+    def test_sequences_inside_of_sequences(self):
+        given = [1, "ab", None, (2, [3, ["x", ()]]), []]
+        self.assertEqual(as_tuples(given), (1, "ab", None, (2, (3, ("x", ()))), ()))
+        self.assertEqual(given, [1, "ab", None, (2, [3, ["x", ()]]), []])
+        self.assertEqual([as_tuples("ab"), as_tuples(7), as_tuples(None)], ["ab", 7, None])
 
 
 if __name__ == "__main__":
