@@ -1,10 +1,9 @@
 """Frames: what is known before any paper is read."""
 
 from fittingpasts.errors import InvalidFrame, InvalidLine, UnknownName
-from fittingpasts.words import as_tuples, check_known, is_name, is_number
+from fittingpasts.words import MOST_DIGITS, as_tuples, check_known, is_name, is_number, is_value
 
 MOST_VALUE = 1000000000000
-MOST_DIGITS = 18
 # The forms of the lines of a text, in order: the first word, the kinds of the next words, and of any more words.
 FORMS = (
     ("last", ("number",), ""),
@@ -89,8 +88,8 @@ def _is_of_kind(word, kind):
     """Return True if a word of a text is a name, a number or a value, as the kind says."""
     if kind == "name":
         return is_name(word)
-    if kind == "value" and word.startswith("-"):
-        return is_number(word[1:], MOST_DIGITS) and word != "-0"
+    if kind == "value":
+        return is_value(word, MOST_DIGITS)
     return is_number(word, MOST_DIGITS)
 
 

@@ -6,7 +6,7 @@ from fittingpasts.house import aged_roll, house_ties, tie_holds, tie_scope
 from fittingpasts.rules import Rule
 from fittingpasts.stays import Stay
 from fittingpasts.timetables import Timetable
-from fittingpasts.variables import day_by, point_variable, values_of, variables
+from fittingpasts.variables import all_values, day_by, point_variable, variables
 from fittingpasts.words import as_tuples, check_known
 
 
@@ -31,8 +31,8 @@ class Past:
     def __init__(self, frame, values):
         values = as_tuples(values)
         chosen = dict(zip(variables(frame), values))
-        for variable, value in chosen.items():
-            if value not in values_of(frame, variable):
+        for (variable, value), known in zip(chosen.items(), all_values(frame)):
+            if value not in known:
                 raise InvalidPast(variable)
         self.frame = frame
         self.assigned = values
@@ -114,8 +114,8 @@ class Past:
         """Return the past of the frame that the text writes."""
         lines = text.split("\n")
         values = []
-        for at, variable in enumerate(variables(frame)):
-            found = [value for value in values_of(frame, variable) if _line_of(variable, value) in lines[at:at + 1]]
+        for at, (variable, known) in enumerate(zip(variables(frame), all_values(frame))):
+            found = [value for value in known if _line_of(variable, value) in lines[at:at + 1]]
             if len(found) == 0:
                 raise InvalidLine(at + 1)
             values.append(found[0])

@@ -14,6 +14,8 @@ PARTS = {
     "rule": "shelves",
     "astray": "shelves",
 }
+# The kinds of which each variable has the same values, whatever its name is.
+ALIKE = ("day", "stay", "heard", "rule")
 
 
 def variables(frame):
@@ -53,11 +55,8 @@ def _cycles_of(frame, name):
     return tuple([cycle for least, most in bounds for cycle in all_cycles(least, most)])
 
 
-def values_of(frame, variable):
-    """Return the tuple of the values of the variable."""
-    if variable not in variables(frame):
-        raise UnknownVariable(variable)
-    kind, name = variable
+def _values_for(frame, kind, name):
+    """Return the tuple of the values of the variable of this kind and name, which the frame has."""
     if kind == "day":
         return tuple(range(frame.last + 1))
     if kind == "stay":
@@ -73,6 +72,22 @@ def values_of(frame, variable):
     if kind == "rule":
         return tuple([rule.terms for rule in all_rules(len(frame.marks) + 1)])
     return ("", *frame.rolls_on(name))
+
+
+def values_of(frame, variable):
+    """Return the tuple of the values of the variable."""
+    if variable not in variables(frame):
+        raise UnknownVariable(variable)
+    kind, name = variable
+    return _values_for(frame, kind, name)
+
+
+def all_values(frame):
+    """Return the tuple of the values of all variables of the frame, in their order."""
+    names = variables(frame)
+    kinds = [kind for kind, _ in names]
+    shared = {kind: _values_for(frame, kind, "") for kind in ALIKE if kind in kinds}
+    return tuple([shared[kind] if kind in shared else _values_for(frame, kind, name) for kind, name in names])
 
 
 def part_name(variable):

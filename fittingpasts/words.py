@@ -4,6 +4,7 @@ from fittingpasts.errors import Duplicate, TooMany, UnknownName
 
 LETTERS = "abcdefghijklmnopqrstuvwxyz"
 DIGITS = "0123456789"
+MOST_DIGITS = 18
 
 
 def is_name(text):
@@ -16,6 +17,13 @@ def is_number(text, most):
     if not 1 <= len(text) <= most or not all([digit in DIGITS for digit in text]):
         return False
     return text == "0" or text[0] != "0"
+
+
+def is_value(text, most):
+    """Return True if the string is a number of at most so many digits; a minus sign may stand ahead of it."""
+    if text.startswith("-"):
+        return is_number(text[1:], most) and text != "-0"
+    return is_number(text, most)
 
 
 def check_names(names, most):

@@ -6,17 +6,23 @@ from fittingpasts.aging import (
     RuleTable, demand_spans, judge_rules, possible_rules, rule_table, shelf_between,
 )
 from fittingpasts.borders import border, gatekeepers, judge_border
+from fittingpasts.bridging import bridges, lean_trail
+from fittingpasts.closing import close, judge_trail, trail
 from fittingpasts.deadlines import carriers, deadlines
 from fittingpasts.demands import demand, shelf_demands
 from fittingpasts.frames import Frame
+from fittingpasts.lots import Lot
 from fittingpasts.past import Past
+from fittingpasts.refuting import Refutation, judge_refutation, refute
 from fittingpasts.rules import Rule, all_rules
+from fittingpasts.search import count_pasts, first_past, pasts, true_lot
 from fittingpasts.shelving import (
     ShelfCut, fitting_rules, judge_cut, shelf_cut, slots, strays, word_over, wrong_pairs,
 )
 from fittingpasts.sources import beginners, heard_days, trace
 from fittingpasts.spans import Network
-from fittingpasts.statements import Statement
+from fittingpasts.statements import Apart, OnDay, Statement
+from fittingpasts.ties import all_ties, fits, is_supported, scope_of
 from fittingpasts.timetables import Timetable
 from fittingpasts.ways import earliest_way, judge_way
 
@@ -25,6 +31,12 @@ NETWORK = Network(("a", "b"), [("a", "b", 1)], last=4)
 RULE = Rule(((0, 1), (1, 1)))
 SOURCES = (("ann",), ("ann", 0), ("ben", 1))
 ROW = (((0, -1),), (), (("a", "b", 1), ("b", "a", 0)))
+HOUSE = Frame(("a", "b"), last=3)
+PAPERS = (Apart("a", "b", 2), OnDay("a", 0, 1) | OnDay("b", 0, 1))
+BAD = (Apart("a", "b", 2), Apart("b", "a", 2))
+STRIKES = trail(HOUSE, PAPERS)
+DAYS = ((0, 1), (0, 2, 3))
+REFUTED = refute(HOUSE, BAD)
 CALLS = [
     (lambda silent: border(TABLE, "ann", "cid", silent=silent), [("ben", "ann")]),
     (lambda silent: judge_border(TABLE, "ann", "cid", (("ann", 0), ("ben", 1)), silent=silent), [("ben",)]),
@@ -61,6 +73,22 @@ CALLS = [
         (1, (0, 2), "p", ("p",), 0, (2, 1)),
     ]),
     (lambda words: str(Statement(words)), [("apart", "a", "b", None, 1)]),
+    (lambda rows: Lot(HOUSE, rows).rows, [DAYS]),
+    (lambda papers: all_ties(HOUSE, papers), [PAPERS]),
+    (lambda papers: scope_of(HOUSE, papers, ("paper", 1)), [PAPERS]),
+    (lambda papers: fits(HOUSE, papers, Past(HOUSE, [0, 2])), [PAPERS]),
+    (lambda papers: is_supported(HOUSE, papers, Lot(HOUSE), ("paper", 0), ("day", "a"), 2), [PAPERS]),
+    (lambda papers, order: close(HOUSE, papers, order=order).rows, [PAPERS, (("paper", 1), ("paper", 0))]),
+    (lambda papers, order: trail(HOUSE, papers, order=order), [PAPERS, (("paper", 1), ("paper", 0))]),
+    (lambda papers, strikes: judge_trail(HOUSE, papers, strikes).rows, [PAPERS, STRIKES]),
+    (lambda papers, strikes: bridges(HOUSE, papers, strikes), [PAPERS, STRIKES]),
+    (lambda papers, strikes: lean_trail(HOUSE, papers, strikes), [PAPERS, STRIKES]),
+    (lambda papers: [past.assigned for past in pasts(HOUSE, papers)], [PAPERS]),
+    (lambda papers: first_past(HOUSE, papers).assigned, [PAPERS]),
+    (lambda papers: count_pasts(HOUSE, papers), [PAPERS]),
+    (lambda papers: true_lot(HOUSE, papers).rows, [PAPERS]),
+    (lambda papers: refute(HOUSE, papers).steps(), [BAD]),
+    (lambda papers: judge_refutation(HOUSE, papers, REFUTED), [BAD]),
 ]
 
 
@@ -95,6 +123,8 @@ class GeneralTest(unittest.TestCase):
             (lambda rows: Frame(("a",), marks=("m",), rolls=rows).rolls, (("r", "a", (1,)),)),
             (lambda rows: Frame(("a",), rolls=[("r", "a", ())], shelves=rows).shelves, (("s", ("r",)),)),
             (lambda rows: Past(Frame(("a",), shelves=[("s", ())]), rows).assigned, (3, ((0, 1),), "")),
+            (lambda rows: Lot(HOUSE, rows).rows, DAYS), (lambda rows: Refutation(rows, None, ()).strikes, STRIKES),
+            (lambda rows: Refutation((), ("day", "a"), rows).children, ((0, REFUTED), (1, REFUTED))),
         ):
             self.assertEqual(made(deep_lists(rows)), rows)
 

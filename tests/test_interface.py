@@ -53,6 +53,23 @@ FUNCTIONS = {
         "house_ties(frame)", "tie_scope(frame, label)", "tie_holds(frame, label, values)", "frame_network(frame)",
     ],
     "past": ["parted(past, other)"],
+    "reading": [
+        "check_statement(frame, statement)", "check_paper(frame, paper)", "parse_statement(text)", "parse_paper(text)",
+    ],
+    "ties": [
+        "all_ties(frame, papers)", "scope_of(frame, papers, label)", "fits(frame, papers, past)",
+        "is_supported(frame, papers, lot, label, variable, value)",
+    ],
+    "closing": [
+        "close(frame, papers=(), lot=None, *, order=())", "trail(frame, papers=(), lot=None, *, order=())",
+        "judge_trail(frame, papers, strikes, lot=None)",
+    ],
+    "bridging": ["bridges(frame, papers, strikes)", "lean_trail(frame, papers, strikes, lot=None)"],
+    "search": [
+        "pasts(frame, papers=(), lot=None)", "first_past(frame, papers=(), lot=None)",
+        "count_pasts(frame, papers=(), *, most=1000)", "true_lot(frame, papers=())",
+    ],
+    "refuting": ["refute(frame, papers=(), lot=None)", "judge_refutation(frame, papers, refutation, lot=None)"],
 }
 CLASSES = {
     "residues.Residue": [
@@ -124,8 +141,14 @@ CLASSES = {
     "statements.Clause": [
         "(*statements)", "statements()", "scope(frame)", "holds(past)", "__or__", "__eq__", "__len__", "__str__",
     ],
+    "lots.Lot": [
+        "(frame, rows=None)", "property size", "only(variable, *values)", "without(variable, *values)",
+        "part_of(other)", "is_broken()", "is_empty()", "settled()", "only_past()", "static of(frame, *pasts)",
+        "__getitem__", "__and__", "__or__", "__contains__", "__eq__",
+    ],
+    "refuting.Refutation": ["(strikes, variable, children)", "depth()", "steps()"],
 }
-YIELDING = {"members", "lines", "taken_lines", "fitting_stays", "arrivals"}
+YIELDING = {"members", "lines", "taken_lines", "fitting_stays", "arrivals", "pasts"}
 
 
 def written(function, without_first):
