@@ -1,11 +1,14 @@
 """Covering: which values some fitting past has, found by few pasts that have many of them."""
 
 from fittingpasts.grids import size_of
-from fittingpasts.seeking import Seeker
+from fittingpasts.seeking import are_spread
 
 
 def _next_value(rows, covered):
-    """Return the index of a variable and the bit of a value that is not covered yet, or None."""
+    """Return the index of a variable and the bit of a value that is not covered yet, or None.
+
+    The variables with few values come first: where they have a value in vain, the search for others is long.
+    """
     open_rows = [
         (size_of(row), place) for place, (row, seen) in enumerate(zip(rows, covered)) if row & ~seen != 0
     ]
@@ -16,22 +19,38 @@ def _next_value(rows, covered):
     return place, left & -left
 
 
-def true_rows(web, rows, active):
-    """Return the rows of the values that fitting pasts in the rows have."""
-    seeker = Seeker(web)
-    rows = web.closed(rows, active)
-    covered = [0 for _ in rows]
-    found = _next_value(rows, covered)
-    while found is not None:
-        place, bit = found
-        wanted = [row & ~seen for row, seen in zip(rows, covered)]
-        less, _ = web.chosen(rows, place, bit, active)
-        part = None if 0 in less else seeker.free_part(less, active, wanted)
+def _still_free(web, seeker, rows, active, parts):
+    """Return the list of what is free in the rows of parts that were free for some of the active knots."""
+    found = []
+    for part in parts:
+        less = web.closed([row & other for row, other in zip(part, rows)], active)
+        if 0 not in less and are_spread(list(seeker.binding(less, active).values())):
+            found.append(less)
+    return found
+
+
+def covered_rows(web, seeker, rows, active, parts=()):
+    """Return the rows of the values that fitting pasts in the rows have, and the list of free parts that cover them.
+
+    `parts` may have parts that are free for some of the active knots: what they cover need not be looked for.
+    """
+    left = web.closed(rows, active)
+    found = _still_free(web, seeker, left, active, parts)
+    covered = [0 for _ in left]
+    for part in found:
+        covered = [seen | row for seen, row in zip(covered, part)]
+    wanted = _next_value(left, covered)
+    while wanted is not None:
+        place, bit = wanted
+        less, _ = web.chosen(left, place, bit, active)
+        open_rows = [row & ~seen for row, seen in zip(left, covered)]
+        part = None if 0 in less else seeker.free_part(less, active, open_rows)
         if part is None:
-            rows, _ = web.dropped(rows, place, bit, active)
+            left, _ = web.dropped(left, place, bit, active)
         else:
+            found.append(part)
             covered = [seen | row for seen, row in zip(covered, part)]
-        if 0 in rows:
-            return [0 for _ in rows]
-        found = _next_value(rows, covered)
-    return rows
+        if 0 in left:
+            return [0 for _ in left], []
+        wanted = _next_value(left, covered)
+    return left, found

@@ -10,19 +10,19 @@ from fittingpasts.variables import all_values, day_by, point_variable, variables
 from fittingpasts.words import as_tuples, check_known
 
 
-def _words_of(kind, value):
-    """Return the list of the words that write a value of a variable of this kind."""
+def value_text(kind, value):
+    """Return the words that write a value of a variable of this kind, with one space between."""
     if kind == "rule":
-        return [str(Rule(value))]
+        return str(Rule(value))
     if isinstance(value, tuple):
-        return [str(part) for part in value]
-    return [str(value)]
+        return " ".join([str(part) for part in value])
+    return str(value)
 
 
 def _line_of(variable, value):
     """Return the line of a text that says that the variable has the value."""
     kind, name = variable
-    return " ".join([word for word in [kind, name, *_words_of(kind, value)] if word != ""])
+    return " ".join([word for word in [kind, name, value_text(kind, value)] if word != ""])
 
 
 class Past:

@@ -2,7 +2,7 @@
 
 from fittingpasts.closing import check_given, lot_of_rows, rows_given
 from fittingpasts.counting import count_fitting
-from fittingpasts.covering import true_rows
+from fittingpasts.covering import covered_rows
 from fittingpasts.grids import bits_of, has_many
 from fittingpasts.past import Past
 from fittingpasts.seeking import Seeker
@@ -87,4 +87,5 @@ def true_lot(frame, papers=()):
     """Return the least lot that has all pasts that fit."""
     check_given(frame, papers, None)
     web = Web(frame, papers)
-    return lot_of_rows(web, true_rows(web, web.grid.wholes, web.all_knots))
+    rows, _ = covered_rows(web, Seeker(web), web.grid.wholes, web.all_knots)
+    return lot_of_rows(web, rows)

@@ -39,6 +39,10 @@ class Web:
             self._touching[place] = self._touching[place] | (1 << at)
         return 1 << at
 
+    def paper_knot(self, at):
+        """Return the knot of the paper at an index."""
+        return 1 << self.labels.index(("paper", at))
+
     def settled(self, rows, waiting, active):
         """Strike what the active knots do not support, beginning with the waiting ones, until a row is empty.
 

@@ -136,13 +136,14 @@ def many_values(rows):
     return many
 
 
-def cases(seed, many, most_papers=4, most_choices=1500):
+def cases(seed, many, most_papers=4, most_choices=1500, least_people=0):
     """Small frames with papers, of which all pasts can be tried."""
     numbers = Numbers(seed)
     rows = []
     while len(rows) < many:
         frame = small_frame(numbers)
-        if many_values([values_of(frame, variable) for variable in variables(frame)]) <= most_choices:
+        choices = many_values([values_of(frame, variable) for variable in variables(frame)])
+        if choices <= most_choices and len(frame.people) >= least_people:
             rows.append((frame, some_papers(numbers, frame, most_papers)))
     return rows
 
@@ -209,10 +210,15 @@ def closed(frame, papers, lot):
 def all_fitting(frame, papers, lot=None):
     """All pasts of a lot that fit the papers, ascending, by trying each."""
     names = variables(frame)
-    ties = [label for label, _ in labelled(frame, papers)]
-    found = []
-    for values in product(*(Lot(frame) if lot is None else lot).rows):
-        chosen = dict(zip(names, values))
-        if all(holds(frame, papers, label, chosen) for label in ties):
-            found.append(Past(frame, values))
-    return found
+    rows = (Lot(frame) if lot is None else lot).rows
+    # Each tie is asked as soon as the last variable of its scope has a value.
+    ties = [[] for _ in names]
+    for label, scope in labelled(frame, papers):
+        ties[max(names.index(variable) for variable in scope)].append(label)
+    begun = [()]
+    for at, row in enumerate(rows):
+        begun = [
+            (*values, value) for values in begun for value in row
+            if all(holds(frame, papers, label, dict(zip(names, (*values, value)))) for label in ties[at])
+        ]
+    return [Past(frame, values) for values in begun]

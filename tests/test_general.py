@@ -8,10 +8,12 @@ from fittingpasts.aging import (
 from fittingpasts.borders import border, gatekeepers, judge_border
 from fittingpasts.bridging import bridges, lean_trail
 from fittingpasts.closing import close, judge_trail, trail
+from fittingpasts.conflicts import best_question, conflict, least_dropped
 from fittingpasts.deadlines import carriers, deadlines
 from fittingpasts.demands import demand, shelf_demands
 from fittingpasts.frames import Frame
 from fittingpasts.lots import Lot
+from fittingpasts.measures import days_between, sure_heard, sure_order, sure_together
 from fittingpasts.past import Past
 from fittingpasts.refuting import Refutation, judge_refutation, refute
 from fittingpasts.rules import Rule, all_rules
@@ -23,6 +25,7 @@ from fittingpasts.sources import beginners, heard_days, trace
 from fittingpasts.spans import Network
 from fittingpasts.statements import Apart, OnDay, Statement
 from fittingpasts.ties import all_ties, fits, is_supported, scope_of
+from fittingpasts.verdicts import Verdict, judge_verdict, survey, verdict
 from fittingpasts.timetables import Timetable
 from fittingpasts.ways import earliest_way, judge_way
 
@@ -37,6 +40,8 @@ BAD = (Apart("a", "b", 2), Apart("b", "a", 2))
 STRIKES = trail(HOUSE, PAPERS)
 DAYS = ((0, 1), (0, 2, 3))
 REFUTED = refute(HOUSE, BAD)
+CLAIM = Apart("a", "b", 3)
+OPEN = verdict(HOUSE, PAPERS, CLAIM)
 CALLS = [
     (lambda silent: border(TABLE, "ann", "cid", silent=silent), [("ben", "ann")]),
     (lambda silent: judge_border(TABLE, "ann", "cid", (("ann", 0), ("ben", 1)), silent=silent), [("ben",)]),
@@ -89,6 +94,17 @@ CALLS = [
     (lambda papers: true_lot(HOUSE, papers).rows, [PAPERS]),
     (lambda papers: refute(HOUSE, papers).steps(), [BAD]),
     (lambda papers: judge_refutation(HOUSE, papers, REFUTED), [BAD]),
+    (lambda papers: verdict(HOUSE, papers, CLAIM).witnesses, [PAPERS]),
+    (lambda papers, witnesses: judge_verdict(HOUSE, papers, CLAIM, Verdict("open", witnesses, ())),
+        [PAPERS, OPEN.witnesses]),
+    (lambda papers: list(survey(HOUSE, papers, CLAIM, ~CLAIM)), [PAPERS]),
+    (lambda papers: vars(days_between(HOUSE, papers, "a", "b"))["least"], [PAPERS]),
+    (lambda papers: sure_order(HOUSE, papers).pairs(), [PAPERS]),
+    (lambda papers: sure_together(HOUSE, papers), [PAPERS]),
+    (lambda papers: sure_heard(HOUSE, papers, "a"), [PAPERS]),
+    (lambda papers: conflict(HOUSE, papers), [BAD]),
+    (lambda papers: least_dropped(HOUSE, papers), [BAD]),
+    (lambda papers: best_question(HOUSE, papers, CLAIM), [PAPERS]),
 ]
 
 
@@ -125,6 +141,8 @@ class GeneralTest(unittest.TestCase):
             (lambda rows: Past(Frame(("a",), shelves=[("s", ())]), rows).assigned, (3, ((0, 1),), "")),
             (lambda rows: Lot(HOUSE, rows).rows, DAYS), (lambda rows: Refutation(rows, None, ()).strikes, STRIKES),
             (lambda rows: Refutation((), ("day", "a"), rows).children, ((0, REFUTED), (1, REFUTED))),
+            (lambda rows: Verdict("open", rows, ()).witnesses, OPEN.witnesses),
+            (lambda rows: Verdict("void", (), rows).refutations, (REFUTED,)),
         ):
             self.assertEqual(made(deep_lists(rows)), rows)
 

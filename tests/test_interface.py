@@ -70,6 +70,19 @@ FUNCTIONS = {
         "count_pasts(frame, papers=(), *, most=1000)", "true_lot(frame, papers=())",
     ],
     "refuting": ["refute(frame, papers=(), lot=None)", "judge_refutation(frame, papers, refutation, lot=None)"],
+    "verdicts": [
+        "verdict(frame, papers, claim)", "judge_verdict(frame, papers, claim, verdict)",
+        "survey(frame, papers, *claims)",
+    ],
+    "measures": [
+        "days_between(frame, papers, first, second)", "sure_order(frame, papers)", "sure_together(frame, papers)",
+        "sure_heard(frame, papers, point)",
+    ],
+    "conflicts": [
+        "conflict(frame, papers)", "least_dropped(frame, papers)", "best_question(frame, papers, *claims)",
+    ],
+    "archives": ["archive_text(desk)", "read_archive(text)"],
+    "tables": ["lot_table(lot)", "past_table(past)"],
 }
 CLASSES = {
     "residues.Residue": [
@@ -147,8 +160,18 @@ CLASSES = {
         "__getitem__", "__and__", "__or__", "__contains__", "__eq__",
     ],
     "refuting.Refutation": ["(strikes, variable, children)", "depth()", "steps()"],
+    "verdicts.Verdict": ["(word, witnesses, refutations)"],
+    "measures.Measure": ["(least, most, low, high, below, above)"],
+    "paperlist.PaperList": [
+        "(frame)", "property limit", "property size", "property changes", "enter(*papers)", "withdraw(number)",
+        "listed()", "found(number)", "set_limit(value)", "undo()", "redo()", "twin()",
+    ],
+    "desk.Desk": [
+        "(frame)", "enter(*papers)", "twin()", "closed()", "word_on(claim)", "ask(claim)", "asked()", "news()",
+        "reopened(*numbers)", "suppose(deed, *papers)",
+    ],
 }
-YIELDING = {"members", "lines", "taken_lines", "fitting_stays", "arrivals", "pasts"}
+YIELDING = {"members", "lines", "taken_lines", "fitting_stays", "arrivals", "pasts", "survey"}
 
 
 def written(function, without_first):

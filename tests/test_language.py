@@ -281,7 +281,7 @@ class LanguageTest(unittest.TestCase):
         kept = {row.targets[0].id for node in ALL_CLASSES for row in node.body if isinstance(row, ast.Assign)}
         self.assertEqual(kept & (attributes | methods | METHODS), set(), "L5: class values")
         for name, node, _ in self.each(ast.Attribute):
-            right = node.attr in attributes | methods | METHODS | kept
+            right = node.attr in attributes | methods | METHODS | kept | {"setter"}
             self.refuse("L18", name, node, not right)
 
     def test_l19_errors(self):
@@ -315,7 +315,7 @@ class LanguageTest(unittest.TestCase):
         for name, node, parents in self.each(ast.Call):
             over = parents[node]
             looped = isinstance(over, (ast.For, ast.comprehension)) and over.iter is node
-            passed = isinstance(over, ast.Call) and called(over) in ITERATING
+            passed = isinstance(over, ast.Call) and called(over) in ITERATING | LIBRARY["itertools"]
             if called(node) in OPEN_CALLS | {"items", "keys", "values"}:
                 kept = isinstance(over, ast.Assign) and called(node) == "range"
                 tested = isinstance(over, ast.Compare) and isinstance(over.ops[-1], ast.In) and called(node) == "range"

@@ -15,7 +15,7 @@ from tests.houses import PAIR
 from tests.papers import CROWDED, EVENTS, GREAT, GREAT_PAPERS, all_fitting, cases, some_lot, tight_cases
 from tests.test_closing import ROW, ROW_PAPERS
 
-CASES = cases(88, 90) + tight_cases(4, 200)
+CASES = cases(88, 90) + cases(3, 45, most_choices=12000, least_people=2) + tight_cases(4, 200)
 FITTING = [(frame, papers, all_fitting(frame, papers)) for frame, papers in CASES]
 
 
