@@ -6,7 +6,7 @@ A box is a dict with a row for some variables of the scope; a variable without a
 from fittingpasts.cycles import is_whole, place_on
 from fittingpasts.demands import SIGNS
 from fittingpasts.meanings import is_said_rightly
-from fittingpasts.reading import statements_of
+from fittingpasts.statements import statements_of
 
 # What the comparison of two rolls by a rule may give.
 BEFORE = (-1,)

@@ -59,8 +59,8 @@ def best_question(frame, papers, *claims):
     for at, claim in enumerate(claims):
         sizes = []
         for answer in (claim, ~claim):
-            active = web.all_knots | web.added([*papers, answer])
-            left, _ = covered_rows(web, seeker, rows, active, parts)
+            more = web.added(("paper", len(papers)), answer)
+            left, _ = covered_rows(web, seeker, rows, web.all_knots | more, more, parts)
             sizes.append(sum([size_of(row) for row in left]))
         asked.append((max(sizes), sum(sizes), at, sizes[0], sizes[1]))
     _, _, best, yes, no = min(asked)

@@ -19,25 +19,26 @@ def _next_value(rows, covered):
     return place, left & -left
 
 
-def _still_free(web, seeker, rows, active, parts):
-    """Return the list of what is free in the rows of parts that were free for some of the active knots."""
+def _still_free(web, seeker, rows, more, parts):
+    """Return the list of what is free in the rows of free parts, if more knots are active than those of the parts."""
     found = []
-    for part in parts:
+    for part, knots in parts:
+        active = knots | more
         less = web.closed([row & other for row, other in zip(part, rows)], active)
         if 0 not in less and are_spread(list(seeker.binding(less, active).values())):
-            found.append(less)
+            found.append((less, active))
     return found
 
 
-def covered_rows(web, seeker, rows, active, parts=()):
+def covered_rows(web, seeker, rows, active, more=0, parts=()):
     """Return the rows of the values that fitting pasts in the rows have, and the list of free parts that cover them.
 
-    `parts` may have parts that are free for some of the active knots: what they cover need not be looked for.
+    `parts` are free parts for the active knots without those of `more`: what they cover need not be looked for.
     """
     left = web.closed(rows, active)
-    found = _still_free(web, seeker, left, active, parts)
+    found = _still_free(web, seeker, left, more, parts)
     covered = [0 for _ in left]
-    for part in found:
+    for part, _ in found:
         covered = [seen | row for seen, row in zip(covered, part)]
     wanted = _next_value(left, covered)
     while wanted is not None:
@@ -46,10 +47,10 @@ def covered_rows(web, seeker, rows, active, parts=()):
         open_rows = [row & ~seen for row, seen in zip(left, covered)]
         part = None if 0 in less else seeker.free_part(less, active, open_rows)
         if part is None:
-            left, _ = web.dropped(left, place, bit, active)
+            left, _ = web.chosen(left, place, left[place] - bit, active)
         else:
             found.append(part)
-            covered = [seen | row for seen, row in zip(covered, part)]
+            covered = [seen | row for seen, row in zip(covered, part[0])]
         if 0 in left:
             return [0 for _ in left], []
         wanted = _next_value(left, covered)

@@ -13,7 +13,7 @@ class Decider:
 
     def __init__(self, frame, papers):
         web = Web(frame, papers)
-        self._papers = list(papers)
+        self._many = len(papers)
         self._web = web
         self._seeker = Seeker(web)
         self._rows = web.closed(web.grid.wholes, web.all_knots)
@@ -23,15 +23,15 @@ class Decider:
         """Return the knots of the papers and of the papers of `more`, which are none or one."""
         active = self._web.all_knots
         for paper in more:
-            active = active | self._web.added([*self._papers, paper])
+            active = active | self._web.added(("paper", self._many), paper)
         return active
 
-    def _past_in(self, part, active):
+    def _past_in(self, part):
         """Return a past of a free part."""
-        rows = part
-        for place in range(len(part)):
+        rows, knots = part
+        for place in range(len(rows)):
             if has_many(rows[place]):
-                rows, _ = self._web.chosen(rows, place, rows[place] & -rows[place], active)
+                rows, _ = self._web.chosen(rows, place, rows[place] & -rows[place], knots)
         return past_of_rows(self._web, rows)
 
     def fitting(self, *more):
@@ -44,7 +44,7 @@ class Decider:
         part = None if 0 in rows else self._seeker.free_part(rows, active)
         if part is None:
             return None
-        self._known.append(self._past_in(part, active))
+        self._known.append(self._past_in(part))
         return self._known[-1]
 
     def first_fitting(self, *more):

@@ -84,9 +84,8 @@ def _is_astray(frame, shelf, chosen):
     return stray == "" or len(wrong) > 0
 
 
-def tie_holds(frame, label, values):
-    """Return True if the tie holds with these values of the variables of its scope."""
-    chosen = dict(zip(tie_scope(frame, label), values))
+def is_kept(frame, label, chosen):
+    """Return True if a house tie of the frame holds; `chosen` has the values by their variables."""
     kind, name = label[0], label[1]
     if kind == "guest":
         come, go = chosen["stay", label[2]]
@@ -99,6 +98,11 @@ def tie_holds(frame, label, values):
         return _is_astray(frame, name, chosen)
     _, _, roll, other = label
     return chosen["astray", name] in (roll, other) or not _comes_after(frame, name, roll, other, chosen)
+
+
+def tie_holds(frame, label, values):
+    """Return True if the tie holds with these values of the variables of its scope."""
+    return is_kept(frame, label, dict(zip(tie_scope(frame, label), values)))
 
 
 def frame_network(frame):

@@ -97,7 +97,13 @@ def tied_scope(frame, papers, label):
     return papers[label[1]].scope(frame) if label[0] == "paper" else tie_scope(frame, label)
 
 
+def knot_of_paper(grid, label, paper):
+    """Return the knot with this label of a paper."""
+    return Knot(grid, label, paper.scope(grid.frame), paper_boxes(grid, paper))
+
+
 def knot_of(grid, papers, label):
     """Return the knot of a tie that the frame and the papers have."""
-    boxes = paper_boxes(grid, papers[label[1]]) if label[0] == "paper" else house_boxes(grid, label)
-    return Knot(grid, label, tied_scope(grid.frame, papers, label), boxes)
+    if label[0] == "paper":
+        return knot_of_paper(grid, label, papers[label[1]])
+    return Knot(grid, label, tie_scope(grid.frame, label), house_boxes(grid, label))

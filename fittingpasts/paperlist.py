@@ -1,8 +1,8 @@
 """Lists of numbered papers, whose changes can be taken back and made again."""
 
 from fittingpasts.errors import NothingToRedo, NothingToUndo, OutOfRange, TooMany, UnknownPaper
-from fittingpasts.reading import check_papers, statements_of
-from fittingpasts.statements import Clause
+from fittingpasts.reading import check_papers
+from fittingpasts.statements import Clause, statements_of
 
 FIRST_LIMIT = 8
 GREATEST_LIMIT = 20

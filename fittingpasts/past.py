@@ -2,7 +2,7 @@
 
 from fittingpasts.calendars import Calendar
 from fittingpasts.errors import InvalidLine, InvalidPast, UnknownVariable, UnlikeFrames
-from fittingpasts.house import aged_roll, house_ties, tie_holds, tie_scope
+from fittingpasts.house import aged_roll, house_ties, is_kept
 from fittingpasts.rules import Rule
 from fittingpasts.stays import Stay
 from fittingpasts.timetables import Timetable
@@ -55,12 +55,7 @@ class Past:
 
     def faults(self):
         """Return the list of the labels of the house ties that do not hold."""
-        return [label for label in house_ties(self.frame) if not self._is_kept(label)]
-
-    def _is_kept(self, label):
-        """Return True if the house tie holds."""
-        values = [self[variable] for variable in tie_scope(self.frame, label)]
-        return tie_holds(self.frame, label, values)
+        return [label for label in house_ties(self.frame) if not is_kept(self.frame, label, self)]
 
     def is_whole(self):
         """Return True if all house ties hold."""

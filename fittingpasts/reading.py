@@ -1,7 +1,7 @@
 """Which statements and papers suit a frame, and which ones a text writes."""
 
 from fittingpasts.errors import EmptyClause, InvalidText, OutOfRange, TooMany, UnknownName
-from fittingpasts.statements import Clause, Statement
+from fittingpasts.statements import Clause, Statement, statements_of
 from fittingpasts.variables import point_variable
 from fittingpasts.words import MOST_DIGITS, is_name, is_value
 
@@ -64,11 +64,6 @@ def check_statement(frame, statement):
         _check_word(frame, form, word)
     if words[0] == "dated":
         _check_place(frame, words[2], words[3])
-
-
-def statements_of(paper):
-    """Return the list of the statements of a paper."""
-    return [paper] if isinstance(paper, Statement) else paper.statements()
 
 
 def check_paper(frame, paper):

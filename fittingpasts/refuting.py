@@ -39,9 +39,13 @@ def _below(refutations):
     return [child for refutation in refutations for _, child in refutation.children]
 
 
-def _with_strikes(web, cuts, variable, children):
-    """Return the refutation with the strikes of the cuts."""
-    return Refutation(web.strikes_of(cuts), variable, children)
+def _made(strikes, variable, children):
+    """Return the refutation with these tuples, which nobody else has: so they are not copied."""
+    made = Refutation((), None, ())
+    made.strikes = strikes
+    made.variable = variable
+    made.children = children
+    return made
 
 
 def _value_of(web, place, bit):
@@ -49,41 +53,66 @@ def _value_of(web, place, bit):
     return web.grid.values_in(place, bit)[0]
 
 
+def _with_strikes(web, cuts, inner, variables):
+    """Return the refutation with the strikes of cuts ahead of it, and the variables on which it depends then.
+
+    `variables` has those on which it depends without them. The strikes that it does not need are left out.
+    """
+    kept, needed = web.needed(cuts, variables)
+    return _made((*web.strikes_of(kept), *inner.strikes), inner.variable, inner.children), needed
+
+
+def _emptied(web, cuts):
+    """Return the refutation that consists of cuts of which the last one empties a row, and what it depends on."""
+    return _with_strikes(web, cuts, _made((), None, ()), 1 << cuts[-1][1])
+
+
 def _failing_cases(web, rows, place, active):
-    """Return the children for a variable of which each value empties a row at once."""
+    """Return the refutation of rows in which each value of a variable empties a row, and what it depends on."""
     children = []
+    needed = 1 << place
     for bit in bits_of(rows[place]):
         _, cuts = web.chosen(rows, place, bit, active)
-        children.append((_value_of(web, place, bit), _with_strikes(web, cuts, None, ())))
-    return children
+        child, more = _emptied(web, cuts)
+        needed = needed | more
+        children.append((_value_of(web, place, bit), child))
+    return _made((), web.grid.names[place], tuple(children)), needed
 
 
 def _cases(web, seeker, rows, active):
-    """Return the variable to look into in closed rows in which nothing fits, and the children for its values."""
+    """Return a refutation without strikes of closed rows in which nothing fits, and what it depends on."""
     binding = seeker.binding(rows, active)
     bound = sum([1 << at for at in binding])
     place = seeker.branch(rows, binding)
+    needed = 1 << place
     asked = [place]
     children = []
     for bit in bits_of(rows[place]):
         less, cuts = web.chosen(rows, place, bit, bound)
-        child = _tree(web, seeker, less, cuts, bound)
+        child, more = _tree(web, seeker, less, cuts, bound)
+        # Where the failure has nothing to do with the value, it shows that the other values fail as well.
+        if more & (1 << place) == 0:
+            return child, more
+        needed = needed | more
         children.append((_value_of(web, place, bit), child))
         culprit = place if child.variable is None else web.grid.places[child.variable]
         if culprit not in asked:
             asked.append(culprit)
-            # Where the same variable fails here already, the case that was made had nothing to do with it.
-            if seeker.fails_at(rows, culprit, bound):
-                return web.grid.names[culprit], _failing_cases(web, rows, culprit, bound)
-    return web.grid.names[place], children
+            if seeker.fails_at(culprit, rows, bound):
+                return _failing_cases(web, rows, culprit, bound)
+    return _made((), web.grid.names[place], tuple(children)), needed
 
 
 def _tree(web, seeker, rows, cuts, active):
-    """Return the refutation that begins with the cuts, which lead to these rows; nothing in them fits."""
+    """Return the refutation that begins with cuts that lead to these rows, and what it depends on.
+
+    Nothing in the rows fits.
+    """
     if 0 in rows:
-        return _with_strikes(web, cuts, None, ())
-    variable, children = _cases(web, seeker, rows, active)
-    return _with_strikes(web, cuts, variable, children)
+        seeker.learn_from(cuts)
+        return _emptied(web, cuts)
+    inner, needed = _cases(web, seeker, rows, active)
+    return _with_strikes(web, cuts, inner, needed)
 
 
 def refutation_from(web, seeker, rows, active):
@@ -91,7 +120,8 @@ def refutation_from(web, seeker, rows, active):
     if 0 in rows:
         return Refutation((), None, ())
     left, cuts = web.settled(rows, active, active)
-    return _tree(web, seeker, left, cuts, active)
+    found, _ = _tree(web, seeker, left, cuts, active)
+    return found
 
 
 def refute(frame, papers=(), lot=None):

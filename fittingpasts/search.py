@@ -16,10 +16,11 @@ def _smaller_part(web, seeker, less, active, part, place, bit):
     """
     if 0 in less:
         return None
-    if part[place] & bit == 0:
+    rows, knots = part
+    if rows[place] & bit == 0:
         return seeker.free_part(less, active)
-    smaller, _ = web.chosen(part, place, bit, active)
-    return smaller
+    smaller, _ = web.chosen(rows, place, bit, knots)
+    return smaller, knots
 
 
 def _walk(web, seeker, rows, active, part):

@@ -1,4 +1,9 @@
-"""Seeking: whether some past in the rows fits, found with the variables taken in the order that promises most."""
+"""Seeking: whether some past in the rows fits, found by asking first what is most in doubt.
+
+A question is the index of a variable, of which the value is asked, or, below 0, -1 minus the index of the knot
+of a clause, of which it is asked which statement is true. Several variables, and several knots, are integers:
+the bit at an index tells whether the one at this index is meant.
+"""
 
 from fittingpasts.grids import bits_of, has_many, size_of
 
@@ -18,10 +23,7 @@ def _grouped(groups, reach):
 
 
 def joined(reaches):
-    """Return the list of the groups of variables that ties join; a tie is told by the variables that are open in it.
-
-    Several variables are an integer: the bit at an index tells whether the variable at this index is meant.
-    """
+    """Return the list of the groups of variables that ties join; a tie is told by the variables that are open in it."""
     groups = []
     for reach in reaches:
         groups = _grouped(groups, reach)
@@ -41,14 +43,48 @@ def are_spread(reaches):
     return True
 
 
+def _cost(many, weight):
+    """Return the cost of a question: it is low for few answers, and for ties that failed often."""
+    return many * FINENESS // weight
+
+
+def _own_reason(question):
+    """Return the reason that a question by itself gives: the row of its variable."""
+    return (1 << question if question >= 0 else 0, 0)
+
+
+def _both(reason, other):
+    """Return the reason that has all of two reasons."""
+    return (reason[0] | other[0], reason[1] | other[1])
+
+
+def _depends(question, waiting, reason):
+    """Return True if a failure depends on the answer to the question after which these knots were waiting."""
+    return reason[0] & (1 << question) != 0 if question >= 0 else reason[1] & waiting != 0
+
+
+def _may_be_asked(question, binding):
+    """Return True if the question is one of a variable, or of a clause that is not surely true."""
+    return question >= 0 or -1 - question in binding
+
+
 class Seeker:
-    """Looks for pasts in the rows of a web. It learns which ties fail often, and begins with their variables."""
+    """Looks for pasts in the rows of a web. It learns which ties fail often, and asks for their variables first.
+
+    A free part of rows is the pair of smaller rows, in each of which every value is one of a past that fits,
+    and of the knots for which they are closed and spread; these say at least as much as the active ones.
+    A reason is the pair of the variables and the knots on which it depends that nothing fits in some rows:
+    nothing fits in other rows either, if these variables have the same rows and these knots are active.
+    """
 
     def __init__(self, web):
         self._web = web
         self._weights = {}
         self._failures = 0
+        # The question that failed last, and the reason of the last failure.
         self._culprit = 0
+        self._reason = (0, 0)
+        # The rows of the free part that was found last.
         self._last = None
 
     def binding(self, rows, active):
@@ -67,32 +103,80 @@ class Seeker:
                 found[at] = reach
         return found
 
-    def branch(self, rows, binding):
-        """Return the index of the variable to try next: one with few values in ties that failed often."""
+    def _variable_costs(self, rows, binding):
+        """Return the list of the pairs of a cost and the index of a variable that is open in binding knots."""
         weights = {}
         for at, reach in binding.items():
             weight = self._weights.get(at, 1)
             for bit in bits_of(reach):
                 weights[bit] = weights.get(bit, 0) + weight
-        costs = [
-            (size_of(rows[bit.bit_length() - 1]) * FINENESS // weight, bit.bit_length() - 1)
-            for bit, weight in weights.items()
-        ]
-        return min(costs)[1]
+        costs = []
+        for bit, weight in weights.items():
+            place = bit.bit_length() - 1
+            costs.append((_cost(size_of(rows[place]), weight), place))
+        return costs
 
-    def note_failure(self, cuts):
-        """Remember by which knots a row got empty: the one that emptied it, and those whose cuts led there."""
-        knots = self._web.knots
-        reach = knots[cuts[-1][0]].reach
-        noted = 0
-        for at, place, _ in cuts[::-1]:
-            if reach & (1 << place) != 0 and noted & (1 << at) == 0:
-                noted = noted | (1 << at)
-                reach = reach | knots[at].reach
-                self._weights[at] = self._weights.get(at, 1) + 1
+    def branch(self, rows, binding):
+        """Return the index of the variable whose value is best asked next."""
+        return min(self._variable_costs(rows, binding))[1]
+
+    def _question(self, rows, binding):
+        """Return the question that is best asked next, of a variable or of a clause."""
+        clauses = [
+            (_cost(len(self._web.clauses[at]), self._weights.get(at, 1)), -1 - at)
+            for at in binding if at in self._web.clauses
+        ]
+        return min([*self._variable_costs(rows, binding), *clauses])[1]
+
+    def _choices(self, row, place, wanted):
+        """Return the list of the values of a row, each as its bit, in the order in which they are tried."""
+        first = 0 if wanted is None else row & wanted[place]
+        second = 0 if self._last is None else (row - first) & self._last[place]
+        return [*bits_of(first), *bits_of(second), *bits_of(row - first - second)]
+
+    def _answers(self, question, rows, active, wanted):
+        """Return the list of the answers to a question: rows, the knots to ask in them, and those that are active."""
+        if question < 0:
+            clause = -1 - question
+            others = active & ~(1 << clause)
+            return [(rows, single, others | single) for single in self._web.single_knots(clause)]
+        answers = []
+        for bit in self._choices(rows[question], question, wanted):
+            less, waiting = self._web.with_row(rows, question, bit, active)
+            answers.append((less, waiting, active))
+        return answers
+
+    def _reason_ahead(self, cuts, reason):
+        """Return on what it depends ahead of the cuts that nothing fits behind them for this reason."""
+        kept, variables = self._web.needed(cuts, reason[0])
+        knots = reason[1]
+        for at, _, _ in kept:
+            knots = knots | (1 << at)
+        return variables, knots
+
+    def learn_from(self, cuts):
+        """Remember the knots that emptied a row by the last cut; return the reason of it."""
+        reason = self._reason_ahead(cuts, (1 << cuts[-1][1], 0))
+        self._failures -= 1
+        for bit in bits_of(reason[1]):
+            at = bit.bit_length() - 1
+            known = self._web.clause_of.get(at, at)
+            self._weights[known] = self._weights.get(known, 1) + 1
+        return reason
+
+    def fails_at(self, question, rows, active):
+        """Return True if each answer to a question empties a row of closed rows; keep the reason then."""
+        reason = _own_reason(question)
+        for less, waiting, active_then in self._answers(question, rows, active, None):
+            left, cuts = self._web.settled(less, waiting, active_then)
+            if 0 not in left:
+                return False
+            reason = _both(reason, self.learn_from(cuts))
+        self._reason = reason
+        return True
 
     def free_part(self, rows, active, wanted=None):
-        """Return rows, a part of closed ones, in which every value is one of a past that fits; None if there are none.
+        """Return a free part of closed rows for the active knots, or None if nothing in them fits.
 
         Where `wanted` has rows, their values are tried first.
         """
@@ -101,7 +185,7 @@ class Seeker:
             self._failures = most
             found = self._part_below(rows, active, wanted)
             if found is not None:
-                self._last = found
+                self._last = found[0]
             if found is not None or self._failures > 0:
                 return found
             # The first choices were bad ones: begin again, with what was learned.
@@ -113,44 +197,41 @@ class Seeker:
         closed = self._web.closed(rows, active)
         return 0 not in closed and self.free_part(closed, active) is not None
 
-    def fails_at(self, rows, place, active):
-        """Return True if every value of a variable empties a row of closed rows."""
-        for bit in bits_of(rows[place]):
-            less, cuts = self._web.chosen(rows, place, bit, active)
-            if 0 not in less:
-                return False
-            self.note_failure(cuts)
-        return True
-
     def _part_below(self, rows, active, wanted):
-        """Return a free part of closed rows, or None if there is none or too many choices failed."""
+        """Return a free part of closed rows, or None if there is none or too much failed; keep the reason then."""
         binding = self.binding(rows, active)
         if are_spread(list(binding.values())):
-            return rows
-        place = self.branch(rows, binding)
+            return rows, active
         bound = sum([1 << at for at in binding])
-        asked = [place]
-        for bit in self._choices(rows[place], place, wanted):
-            less, cuts = self._web.chosen(rows, place, bit, bound)
-            if 0 in less:
-                self.note_failure(cuts)
-                self._failures -= 1
-            else:
-                found = self._part_below(less, bound, wanted)
-                if found is not None:
-                    return found
-                # Where the same variable fails here already, the choice that was made had nothing to do with it.
-                if self._failures > 0 and self._culprit not in asked:
-                    asked.append(self._culprit)
-                    if self.fails_at(rows, self._culprit, bound):
-                        return None
-            if self._failures <= 0:
+        question = self._question(rows, binding)
+        reason = _own_reason(question)
+        asked = [question]
+        for answer in self._answers(question, rows, bound, wanted):
+            found = self._part_behind(question, answer, wanted)
+            if found is not None or self._failures <= 0:
+                return found
+            # If the failure has nothing to do with the answer, the other answers fail as well.
+            if not _depends(question, answer[1], self._reason):
                 return None
-        self._culprit = place
+            # So they do if what failed behind the answer fails here already.
+            if self._culprit not in asked:
+                asked.append(self._culprit)
+                if _may_be_asked(self._culprit, binding) and self.fails_at(self._culprit, rows, bound):
+                    return None
+            reason = _both(reason, self._reason)
+        self._culprit = question
+        self._reason = reason
         return None
 
-    def _choices(self, row, place, wanted):
-        """Return the list of the values of a row, each as its bit, in the order in which they are tried."""
-        first = 0 if wanted is None else row & wanted[place]
-        second = 0 if self._last is None else (row - first) & self._last[place]
-        return [*bits_of(first), *bits_of(second), *bits_of(row - first - second)]
+    def _part_behind(self, question, answer, wanted):
+        """Return a free part of what an answer to the question leaves, or None; keep the reason then."""
+        rows, waiting, active = answer
+        less, cuts = self._web.settled(rows, waiting, active)
+        if 0 in less:
+            self._culprit = question
+            self._reason = self.learn_from(cuts)
+            return None
+        found = self._part_below(less, active, wanted)
+        if found is None:
+            self._reason = self._reason_ahead(cuts, self._reason)
+        return found

@@ -4,14 +4,14 @@ from fittingpasts.meanings import is_said_rightly, spoken_of
 from fittingpasts.variables import in_order
 
 
-def _statements_in(paper):
-    """Return the list of the statements of a clause, or of one statement."""
+def statements_of(paper):
+    """Return the list of the statements of a paper: of a clause, or of one statement alone."""
     return [paper] if isinstance(paper, Statement) else paper.statements()
 
 
 def _joined(first, second):
     """Return the clause of the statements of two papers."""
-    parts = [*_statements_in(first), *_statements_in(second)]
+    parts = [*statements_of(first), *statements_of(second)]
     return Clause(*parts)
 
 

@@ -30,6 +30,17 @@ def everything(desk):
     return (*state(desk), desk.asked(), desk.news())
 
 
+def filled_desk(frame, papers):
+    """A desk with those of the papers that do not contradict the ones before."""
+    desk = Desk(frame)
+    for paper in papers:
+        try:
+            desk.enter(paper)
+        except Contradiction:
+            continue
+    return desk
+
+
 class Broken(Exception):
     """What a deed raises in these tests."""
 
@@ -134,12 +145,7 @@ class AskingTest(Case):
     def test_closed_words_and_questions(self):
         numbers = Numbers(2)
         for frame, papers in cases(2, 30, most_choices=4000):
-            desk = Desk(frame)
-            for paper in papers:
-                try:
-                    desk.enter(paper)
-                except Contradiction:
-                    continue
+            desk = filled_desk(frame, papers)
             kept = [clause for _, clause in desk.listed()]
             self.assertEqual(desk.closed(), close(frame, kept))
             claims = [some_statement(numbers, frame) for _ in range(3)]
@@ -247,12 +253,7 @@ class ReopenedTest(Case):
         numbers = Numbers(31)
         found = 0
         for frame, papers in cases(31, 40, most_choices=3000) + tight_cases(31, 60):
-            desk = Desk(frame)
-            for paper in papers:
-                try:
-                    desk.enter(paper)
-                except Contradiction:
-                    continue
+            desk = filled_desk(frame, papers)
             claims = [some_statement(numbers, frame) for _ in range(4)]
             for claim in claims:
                 desk.ask(claim)
