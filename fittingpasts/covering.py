@@ -1,7 +1,7 @@
 """Covering: which values some fitting past has, found by few pasts that have many of them."""
 
 from fittingpasts.grids import size_of
-from fittingpasts.seeking import are_spread
+from fittingpasts.seeking import are_spread, narrowed
 
 
 def _next_value(rows, covered):
@@ -30,6 +30,12 @@ def _still_free(web, seeker, rows, more, parts):
     return found
 
 
+def _values_around(web, part, wanted, active):
+    """Return the rows of a free part, with those of the wanted values for which one past of it may exchange a value."""
+    past = narrowed(web, part, wanted)
+    return [row | web.allowed(past, at, more, active) for at, (row, more) in enumerate(zip(part[0], wanted))]
+
+
 def covered_rows(web, seeker, rows, active, more=0, parts=()):
     """Return the rows of the values that fitting pasts in the rows have, and the list of free parts that cover them.
 
@@ -50,7 +56,8 @@ def covered_rows(web, seeker, rows, active, more=0, parts=()):
             left, _ = web.chosen(left, place, left[place] - bit, active)
         else:
             found.append(part)
-            covered = [seen | row for seen, row in zip(covered, part[0])]
+            around = _values_around(web, part, open_rows, active)
+            covered = [seen | row for seen, row in zip(covered, around)]
         if 0 in left:
             return [0 for _ in left], []
         wanted = _next_value(left, covered)

@@ -1,10 +1,9 @@
 """Deciding: whether fitting pasts make statements true, with what was found kept for the next question."""
 
 from fittingpasts.errors import NoPast
-from fittingpasts.grids import has_many
 from fittingpasts.refuting import refutation_from
 from fittingpasts.search import least_past, past_of_rows
-from fittingpasts.seeking import Seeker
+from fittingpasts.seeking import Seeker, narrowed
 from fittingpasts.webs import Web
 
 
@@ -26,14 +25,6 @@ class Decider:
             active = active | self._web.added(("paper", self._many), paper)
         return active
 
-    def _past_in(self, part):
-        """Return a past of a free part."""
-        rows, knots = part
-        for place in range(len(rows)):
-            if has_many(rows[place]):
-                rows, _ = self._web.chosen(rows, place, rows[place] & -rows[place], knots)
-        return past_of_rows(self._web, rows)
-
     def fitting(self, *more):
         """Return some past that fits the papers and the one that is passed, if one is, or None."""
         for past in self._known:
@@ -44,7 +35,7 @@ class Decider:
         part = None if 0 in rows else self._seeker.free_part(rows, active)
         if part is None:
             return None
-        self._known.append(self._past_in(part))
+        self._known.append(past_of_rows(self._web, narrowed(self._web, part, rows)))
         return self._known[-1]
 
     def first_fitting(self, *more):

@@ -1,9 +1,9 @@
-"""Knots: ties over rows of values, told by boxes, so that what a tie supports is found without all choices.
+"""Knots: ties over rows of values, told by cases of boxes, so that what a tie supports is found without all choices.
 
 Several boxes are an integer: the bit at an index tells whether the box at this index is meant.
 """
 
-from fittingpasts.boxes import house_boxes, paper_boxes
+from fittingpasts.boxes import house_cases, paper_cases
 from fittingpasts.house import tie_scope
 
 
@@ -19,7 +19,8 @@ class Side:
 
     def boxes_with(self, row):
         """Return the boxes that have some value of the row, and keep them in `met`."""
-        self.met[row] = sum([boxes for part, boxes in self._pairs if part & row != 0])
+        if row not in self.met:
+            self.met[row] = sum([boxes for part, boxes in self._pairs if part & row != 0])
         return self.met[row]
 
     def row_of(self, boxes):
@@ -55,20 +56,46 @@ def _sides_of(grid, variables, boxes):
     ]
 
 
-class Knot:
-    """A tie of some variables, with its boxes."""
+def _full_cases(cases):
+    """Return the list of the cases without the boxes that have nothing, and without cases of such boxes alone."""
+    full = [[box for box in case if 0 not in list(box.values())] for case in cases]
+    return [case for case in full if case != []]
 
-    def __init__(self, grid, label, variables, boxes):
-        full = [box for box in boxes if 0 not in list(box.values())]
+
+def _variables_in(case):
+    """Return the list of the variables of which a case speaks."""
+    return list({variable: True for box in case for variable in box})
+
+
+def _boxes_by_case(cases):
+    """Return the list of the boxes of each case, all boxes being numbered through."""
+    found = []
+    before = 0
+    for case in cases:
+        found.append(((1 << len(case)) - 1) << before)
+        before += len(case)
+    return found
+
+
+class Knot:
+    """A tie of some variables, with its cases."""
+
+    def __init__(self, grid, label, variables, cases):
+        full = _full_cases(cases)
+        boxes = [box for case in full for box in case]
         self.label = label
+        self.cases = full
         self.places = tuple([grid.places[variable] for variable in variables])
         self.reach = sum([1 << place for place in self.places])
-        self.many = len(full)
-        self._every = (1 << len(full)) - 1
-        self._sides = _sides_of(grid, variables, full)
+        self.many = len(boxes)
+        self._every = (1 << len(boxes)) - 1
+        self._by_case = _boxes_by_case(full)
+        self._reaches = [sum([1 << grid.places[variable] for variable in _variables_in(case)]) for case in full]
+        self._sides = _sides_of(grid, variables, boxes)
 
     def supported(self, rows):
         """Return the list of the rows of the scope with the supported values only."""
+        # This is asked most of all: what is known is not asked for by a call.
         boxes = self._every
         for side in self._sides:
             row = rows[side.place]
@@ -83,6 +110,27 @@ class Knot:
         less = list(rows)
         less[place] = bit
         return self.supported(less)[0] != 0
+
+    def boxes_in(self, rows):
+        """Return the boxes that have some choice of the rows."""
+        boxes = self._every
+        for side in self._sides:
+            boxes = boxes & side.boxes_with(rows[side.place])
+        return boxes
+
+    def open_cases(self, rows):
+        """Return the list of the indexes of the cases that some choice of the rows keeps."""
+        boxes = self.boxes_in(rows)
+        return [at for at, those in enumerate(self._by_case) if those & boxes != 0]
+
+    def closed_reach(self, rows):
+        """Return the variables of which those cases speak that no choice of the rows keeps."""
+        still_open = self.open_cases(rows)
+        reach = 0
+        for at, part in enumerate(self._reaches):
+            if at not in still_open:
+                reach = reach | part
+        return reach
 
     def is_loose(self, rows):
         """Return True if one box has all choices of the rows, so that the tie holds for each of them."""
@@ -99,11 +147,17 @@ def tied_scope(frame, papers, label):
 
 def knot_of_paper(grid, label, paper):
     """Return the knot with this label of a paper."""
-    return Knot(grid, label, paper.scope(grid.frame), paper_boxes(grid, paper))
+    return Knot(grid, label, paper.scope(grid.frame), paper_cases(grid, paper))
+
+
+def knot_of_case(grid, knot, at):
+    """Return the knot of one case of a knot, with the same label."""
+    case = knot.cases[at]
+    return Knot(grid, knot.label, _variables_in(case), [case])
 
 
 def knot_of(grid, papers, label):
     """Return the knot of a tie that the frame and the papers have."""
     if label[0] == "paper":
         return knot_of_paper(grid, label, papers[label[1]])
-    return Knot(grid, label, tie_scope(grid.frame, label), house_boxes(grid, label))
+    return Knot(grid, label, tie_scope(grid.frame, label), house_cases(grid, label))

@@ -1,8 +1,8 @@
 """Seeking: whether some past in the rows fits, found by asking first what is most in doubt.
 
-A question is the index of a variable, of which the value is asked, or, below 0, -1 minus the index of the knot
-of a clause, of which it is asked which statement is true. Several variables, and several knots, are integers:
-the bit at an index tells whether the one at this index is meant.
+A question is the index of a variable, of which the value is asked, or, below 0, -1 minus the index of a knot,
+of which it is asked which case is true. Several variables, and several knots, are integers: the bit at an index
+tells whether the one at this index is meant.
 """
 
 from fittingpasts.grids import bits_of, has_many, size_of
@@ -43,14 +43,20 @@ def are_spread(reaches):
     return True
 
 
+def narrowed(web, part, wanted):
+    """Return rows with one value each that are a past of a free part, where it may be with wanted values."""
+    rows, knots = part
+    for place, others in enumerate(wanted):
+        if has_many(rows[place]):
+            best = rows[place] & others
+            row = rows[place] if best == 0 else best
+            rows, _ = web.chosen(rows, place, row & -row, knots)
+    return rows
+
+
 def _cost(many, weight):
     """Return the cost of a question: it is low for few answers, and for ties that failed often."""
     return many * FINENESS // weight
-
-
-def _own_reason(question):
-    """Return the reason that a question by itself gives: the row of its variable."""
-    return (1 << question if question >= 0 else 0, 0)
 
 
 def _both(reason, other):
@@ -64,7 +70,7 @@ def _depends(question, waiting, reason):
 
 
 def _may_be_asked(question, binding):
-    """Return True if the question is one of a variable, or of a clause that is not surely true."""
+    """Return True if the question is one of a variable, or of a knot that is not surely true."""
     return question >= 0 or -1 - question in binding
 
 
@@ -120,13 +126,23 @@ class Seeker:
         """Return the index of the variable whose value is best asked next."""
         return min(self._variable_costs(rows, binding))[1]
 
+    def _case_costs(self, rows, binding):
+        """Return the list of the pairs of a cost and the question of a binding knot with several open cases."""
+        costs = []
+        for at in binding:
+            many = len(self._web.knots[at].open_cases(rows))
+            if many > 1:
+                costs.append((_cost(many, self._weights.get(at, 1)), -1 - at))
+        return costs
+
     def _question(self, rows, binding):
-        """Return the question that is best asked next, of a variable or of a clause."""
-        clauses = [
-            (_cost(len(self._web.clauses[at]), self._weights.get(at, 1)), -1 - at)
-            for at in binding if at in self._web.clauses
-        ]
-        return min([*self._variable_costs(rows, binding), *clauses])[1]
+        """Return the question that is best asked next."""
+        return min([*self._variable_costs(rows, binding), *self._case_costs(rows, binding)])[1]
+
+    def _own_reason(self, question, rows):
+        """Return the reason that a question by itself gives: by these rows there are no other answers."""
+        reach = 1 << question if question >= 0 else self._web.knots[-1 - question].closed_reach(rows)
+        return reach, 0
 
     def _choices(self, row, place, wanted):
         """Return the list of the values of a row, each as its bit, in the order in which they are tried."""
@@ -137,9 +153,10 @@ class Seeker:
     def _answers(self, question, rows, active, wanted):
         """Return the list of the answers to a question: rows, the knots to ask in them, and those that are active."""
         if question < 0:
-            clause = -1 - question
-            others = active & ~(1 << clause)
-            return [(rows, single, others | single) for single in self._web.single_knots(clause)]
+            at = -1 - question
+            others = active & ~(1 << at)
+            singles = [self._web.case_knot(at, case) for case in self._web.knots[at].open_cases(rows)]
+            return [(rows, single, others | single) for single in singles]
         answers = []
         for bit in self._choices(rows[question], question, wanted):
             less, waiting = self._web.with_row(rows, question, bit, active)
@@ -160,13 +177,13 @@ class Seeker:
         self._failures -= 1
         for bit in bits_of(reason[1]):
             at = bit.bit_length() - 1
-            known = self._web.clause_of.get(at, at)
+            known = self._web.whole_of.get(at, at)
             self._weights[known] = self._weights.get(known, 1) + 1
         return reason
 
     def fails_at(self, question, rows, active):
         """Return True if each answer to a question empties a row of closed rows; keep the reason then."""
-        reason = _own_reason(question)
+        reason = self._own_reason(question, rows)
         for less, waiting, active_then in self._answers(question, rows, active, None):
             left, cuts = self._web.settled(less, waiting, active_then)
             if 0 not in left:
@@ -204,7 +221,7 @@ class Seeker:
             return rows, active
         bound = sum([1 << at for at in binding])
         question = self._question(rows, binding)
-        reason = _own_reason(question)
+        reason = self._own_reason(question, rows)
         asked = [question]
         for answer in self._answers(question, rows, bound, wanted):
             found = self._part_behind(question, answer, wanted)

@@ -1,23 +1,13 @@
 """Webs: all ties of a frame and papers, and the striking of values that some of them do not support."""
 
 from fittingpasts.grids import Grid
-from fittingpasts.knots import knot_of, knot_of_paper
-from fittingpasts.statements import statements_of
+from fittingpasts.knots import knot_of, knot_of_case, knot_of_paper
 from fittingpasts.ties import tie_labels
 
 
 def _cost_of(knot):
     """Return a key that puts the knots that cost most ahead."""
     return (-len(knot.places), -knot.many)
-
-
-def _statements_by_knot(knots, papers):
-    """Return a dict from the indexes of the knots of clauses of several statements to the lists of these."""
-    return {
-        at: statements_of(papers[knot.label[1]])
-        for at, knot in enumerate(knots)
-        if knot.label[0] == "paper" and len(statements_of(papers[knot.label[1]])) > 1
-    }
 
 
 class Web:
@@ -34,36 +24,38 @@ class Web:
         self.knots = sorted(knots, key=_cost_of)
         self.labels = [knot.label for knot in self.knots]
         self.all_knots = (1 << len(knots)) - 1
-        self.clauses = _statements_by_knot(self.knots, papers)
-        # From the index of the knot of a clause to the knots of its statements, and back.
-        self._singles = {}
-        self.clause_of = {}
+        # From the index of a knot and that of one of its cases to the knot of this case, and back to the first index.
+        self._case_knots = {}
+        self.whole_of = {}
         self._touching = [
             sum([1 << at for at, knot in enumerate(self.knots) if place in knot.places])
             for place in range(len(grid.names))
         ]
 
-    def added(self, label, paper):
-        """Add the knot of one more paper, which is not one of `all_knots`, and return it."""
+    def _with_knot(self, knot):
+        """Add a knot, which is not one of `all_knots`, and return its index."""
         at = len(self.knots)
-        knot = knot_of_paper(self.grid, label, paper)
         self.knots.append(knot)
-        self.labels.append(label)
+        self.labels.append(knot.label)
         for place in knot.places:
             self._touching[place] = self._touching[place] | (1 << at)
-        return 1 << at
+        return at
+
+    def added(self, label, paper):
+        """Add the knot of one more paper, and return it."""
+        return 1 << self._with_knot(knot_of_paper(self.grid, label, paper))
 
     def paper_knot(self, at):
         """Return the knot of the paper at an index."""
         return 1 << self.labels.index(("paper", at))
 
-    def single_knots(self, at):
-        """Return the list of the knots of the statements of the clause at an index, each by itself."""
-        if at not in self._singles:
-            self._singles[at] = [self.added(self.labels[at], statement) for statement in self.clauses[at]]
-            for knot in self._singles[at]:
-                self.clause_of[knot.bit_length() - 1] = at
-        return self._singles[at]
+    def case_knot(self, at, case):
+        """Return the knot of one case of the knot at an index."""
+        if (at, case) not in self._case_knots:
+            single = self._with_knot(knot_of_case(self.grid, self.knots[at], case))
+            self._case_knots[at, case] = 1 << single
+            self.whole_of[single] = at
+        return self._case_knots[at, case]
 
     def settled(self, rows, waiting, active):
         """Strike what the active knots do not support, beginning with the waiting ones, until a row is empty.
@@ -105,6 +97,16 @@ class Web:
         """Return `settled` for closed rows of which the row of a variable is made this smaller one."""
         less, waiting = self.with_row(rows, place, row, active)
         return self.settled(less, waiting, active)
+
+    def allowed(self, rows, place, row, active):
+        """Return the values in a row of a variable that each active knot supports in the rows of the others."""
+        left, touching = self.with_row(rows, place, row, active)
+        while touching != 0 and left[place] != 0:
+            index = touching.bit_length() - 1
+            knot = self.knots[index]
+            left[place] = knot.supported(left)[knot.places.index(place)]
+            touching = touching - (1 << index)
+        return left[place]
 
     def needed(self, cuts, variables):
         """Return those of the cuts on which the rows of some variables depend, and all variables on which they do."""
