@@ -17,7 +17,7 @@ class Teller:
         """Return True if some past in closed rows fits the active knots."""
         return 0 not in rows and self._seeker.free_part(rows, active) is not None
 
-    def count(self, rows, active, reach, most):
+    def ways(self, rows, active, reach, most):
         """Return in how many ways the variables of `reach` may be chosen, but not more than `most`.
 
         The active knots are all that join them to others, and in at least one way they may be chosen.
@@ -41,7 +41,7 @@ class Teller:
         return tuple(binding), tuple([rows[bit.bit_length() - 1] for bit in bits_of(reach)])
 
     def _count_group(self, rows, binding, group, most):
-        """Return `count` for a group of variables that the binding knots join."""
+        """Return `ways` for a group of variables that the binding knots join."""
         key = self._key(rows, binding)
         if key not in self._known:
             total = self._count_by_values(rows, binding, group, most)
@@ -61,14 +61,14 @@ class Teller:
         return list(found.values())
 
     def _count_by_values(self, rows, binding, group, most):
-        """Return `count` for a group: each value of one of its variables in turn, but of those that are alike one only."""
+        """Return `ways` for a group: each value of one of its variables in turn, and one for all that are alike."""
         active = sum([1 << at for at in binding])
         place = self._seeker.branch(rows, binding)
         total = 0
         for row in self._alike(rows, place, binding):
             less, _ = self._web.chosen(rows, place, row & -row, active)
             if self.some_fit(less, active):
-                total += size_of(row) * self.count(less, active, group, most - total)
+                total += size_of(row) * self.ways(less, active, group, most - total)
             if total >= most:
                 break
         return total
@@ -81,4 +81,4 @@ def count_fitting(web, rows, active, most):
     if not teller.some_fit(closed, active):
         return 0
     reach = sum([1 << place for place, row in enumerate(closed) if has_many(row)])
-    return teller.count(closed, active, reach, most)
+    return teller.ways(closed, active, reach, most)

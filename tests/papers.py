@@ -30,6 +30,13 @@ def great_frame(last=20):
 
 
 GREAT = great_frame()
+# The known marks tell nothing: on both shelves the ages of many events decide, and how is not known.
+ALIKE = Frame(
+    EVENTS, PEOPLE, [("eventa", PEOPLE[:2])], [("week", 1, 12)], ("size", "hue"),
+    [("roll" + letter, event, (0, 0)) for letter, event in zip("abcdefgh", EVENTS)],
+    [("attic", ("rolla", "rollb", "rollc", "rolld", "rolle")), ("desk", ("rolle", "rollc", "rolla", "rollf", "rollb"))],
+    last=20,
+)
 # Papers of many kinds that some pasts of the greatest frame fit.
 GREAT_PAPERS = [
     Dated("eventa", "week", 0), Dated("eventb", "week", 3), Long("week", 7, 7), Apart("eventa", "eventh", 3, 9),

@@ -1,5 +1,6 @@
 import unittest
 from itertools import islice
+from math import comb
 from time import process_time
 
 from fittingpasts.closing import close
@@ -7,12 +8,14 @@ from fittingpasts.errors import EmptyClause, UnknownName, UnlikeFrames
 from fittingpasts.frames import Frame
 from fittingpasts.lots import Lot
 from fittingpasts.search import count_pasts, first_past, pasts, true_lot
-from fittingpasts.statements import Apart, Began, Clause, Dated, Filed, Heard, OnDay, Rises, Together
+from fittingpasts.statements import Apart, Astray, Began, Clause, Dated, Filed, Heard, OnDay, Rises, Together
 from fittingpasts.ties import fits
 from fittingpasts.variables import values_of, variables
 from tests.helpers import Case, Numbers
 from tests.houses import PAIR
-from tests.papers import CROWDED, EVENTS, GREAT, GREAT_PAPERS, all_fitting, cases, some_lot, tight_cases
+from tests.papers import (
+    ALIKE, CROWDED, EVENTS, GREAT, GREAT_PAPERS, PEOPLE, all_fitting, cases, some_lot, tight_cases,
+)
 from tests.test_closing import ROW, ROW_PAPERS
 
 CASES = cases(88, 90) + cases(3, 45, most_choices=12000, least_people=2) + tight_cases(4, 200)
@@ -95,12 +98,29 @@ class CountTest(Case):
         begun = process_time()
         for papers in ([], GREAT_PAPERS):
             self.assertEqual(count_pasts(GREAT, papers), 1000)
-            self.assertEqual(count_pasts(GREAT, papers, most=10 ** 5), 10 ** 5)
+            for most in (10 ** 5, 10 ** 9):
+                self.assertEqual(count_pasts(GREAT, papers, most=most), most)
         self.assertEqual(count_pasts(Frame(EVENTS, last=20), most=10 ** 18), 21 ** 8)
         chain = [Apart(EVENTS[at], EVENTS[at + 1], 1) for at in range(7)]
         self.assertEqual(count_pasts(Frame(EVENTS, last=9), chain, most=10 ** 9), 45)
+        self.assertEqual(count_pasts(Frame(EVENTS, last=20), chain, most=10 ** 9), comb(21, 8))
         self.assertEqual(count_pasts(GREAT, CROWDED), 0)
-        self.assertLess(process_time() - begun, 6)
+        self.assertLess(process_time() - begun, 10)
+
+    def test_stays_that_go_with_many_others(self):
+        # Of the stays on three days, six, each has some that have a common day with it.
+        stays = [(come, go) for come in range(3) for go in range(come, 3)]
+        met = [[come <= last and first <= go for first, last in stays] for come, go in stays]
+        chains = [1] * len(stays)
+        for many in range(2, 5):
+            chains = [sum(chains[at] for at in range(len(stays)) if row[at]) for row in met]
+            people = PEOPLE[:many]
+            papers = [Together(person, other) for person, other in zip(people, people[1:])]
+            # One of them begins the news, the others hear nothing: there are no meetings.
+            right = many * sum(chains)
+            self.assertEqual(count_pasts(Frame(("a",), people, last=2), papers, most=10 ** 6), 3 * right)
+            self.assertEqual(count_pasts(Frame(("a",), people, last=2), papers, most=3 * right), 3 * right)
+            self.assertEqual(count_pasts(Frame(("a",), people, last=2), papers, most=3 * right - 1), 3 * right - 1)
 
 
 class TrueLotTest(Case):
@@ -151,6 +171,17 @@ class TrueLotTest(Case):
                 for value in row[:1]:
                     found = first_past(GREAT, papers, Lot(GREAT).only(variable, value))
                     self.assertIs(found is not None, right, (variable, value))
+
+    def test_shelves_of_rolls_that_are_alike(self):
+        begun = process_time()
+        lot = true_lot(ALIKE, [~Astray("attic")])
+        self.assertEqual(lot[("astray", "attic")], ("",))
+        # Without rollc the rolls on the desk are of one day: then rollc is in no wrong pair.
+        self.assertEqual(lot[("astray", "desk")], ("", "rolle", "rolla", "rollf", "rollb"))
+        lot = true_lot(ALIKE, [Apart("eventa", "eventb", 1), Apart("eventc", "eventb", 1), OnDay("eventf", 0, 9)])
+        self.assertNotIn("", lot[("astray", "attic")])
+        self.assertTrue(lot.part_of(close(ALIKE, [OnDay("eventf", 0, 9)])))
+        self.assertLess(process_time() - begun, 10)
 
     def test_rules_that_no_day_allows(self):
         # The rolls were written at once: then the size alone decides, and one roll may be astray, but not two.

@@ -12,7 +12,7 @@ from fittingpasts.statements import (
 from fittingpasts.variables import values_of, variables
 from fittingpasts.verdicts import Verdict, judge_verdict, survey, verdict
 from tests.helpers import Case, Numbers
-from tests.papers import GREAT, GREAT_PAPERS, some_statement
+from tests.papers import ALIKE, GREAT, GREAT_PAPERS, some_statement
 from tests.test_closing import ROW, ROW_PAPERS
 from tests.test_search import FITTING
 
@@ -193,6 +193,17 @@ class GreatestFrameTest(Case):
             self.assertEqual([found.word, words[at]], [word, word], str(claim))
             self.assertTrue(judge_verdict(GREAT, GREAT_PAPERS, claim, found))
         self.assertLess(process_time() - begun, 15)
+
+    def test_shelves_of_rolls_that_are_alike(self):
+        begun = process_time()
+        for papers, roll, word in (
+            ([~Astray("attic")], "rollc", "never"), ([~Astray("attic")], "rolla", "open"), ([], "rollc", "open"),
+            ([Apart("evente", "eventa", 1), ~Astray("attic"), ~Astray("desk", "rollb")], "rollb", "never"),
+        ):
+            found = verdict(ALIKE, papers, Astray("desk", roll))
+            self.assertEqual(found.word, word)
+            self.assertTrue(judge_verdict(ALIKE, papers, Astray("desk", roll), found))
+        self.assertLess(process_time() - begun, 12)
 
 
 if __name__ == "__main__":
